@@ -1,0 +1,1 @@
+"""Lackcry: one cry for all that each lacks alone."""

@@ -1,0 +1,279 @@
+"""The package's files keep to LANGUAGE.md: what of its rules can be seen in the code."""
+
+import ast
+import builtins
+import pathlib
+import re
+import unittest
+import warnings
+
+PACKAGE = pathlib.Path(__file__).resolve().parent.parent / "lackcry"
+FILES = sorted(PACKAGE.rglob("*.py"))
+
+# The interface's names, by the file that must define them; later stages add theirs.
+INTERFACE = {
+    "errors": (
+        "NotSo", "Gone", "TooMany", "TooFew", "NoWish", "BadHouse", "BadFile", "BadWishes", "NoSpares",
+        "NoText", "NoLine", "NoLot", "ByDay", "ByNight", "NoNumber", "NoFile", "NoHand", "Over",
+    ),
+    "lots": ("choose", "is_lot", "lot_at", "number_of", "lots"),
+    "signs": ("sign", "laid", "without", "with_hand"),
+}
+PARAMETERS = {
+    "choose": ["n", "k"],
+    "is_lot": ["hands", "size", "thing"],
+    "lot_at": ["hands", "size", "number"],
+    "number_of": ["hands", "lot"],
+    "lots": ["hands", "size"],
+    "sign": ["hand", "lot"],
+    "laid": ["one", "other"],
+    "without": ["lot", "hand"],
+    "with_hand": ["lot", "hand"],
+}
+BUILTINS = set(
+    "len range enumerate zip min max sum abs sorted reversed int str bool bytes list tuple dict set frozenset "
+    "isinstance ord repr any all divmod iter next Exception ValueError TypeError KeyError IndexError LookupError "
+    "ZeroDivisionError ArithmeticError OverflowError RuntimeError NotImplementedError AttributeError StopIteration "
+    "NotImplemented property staticmethod classmethod super".split()
+)
+METHODS = set(
+    "append clear copy count endswith extend find get index insert isalnum isalpha isdigit islower isspace isupper "
+    "items join keys ljust lower lstrip partition pop remove replace reverse rfind rjust rpartition rsplit rstrip "
+    "setdefault split splitlines startswith strip update upper values zfill bit_length add discard sort".split()
+)
+DOUBLE = set(
+    "__init__ __eq__ __repr__ __str__ __len__ __enter__ __exit__ __call__ __iter__".split()
+)
+NEVER_NAMES = set(
+    "register mro elements open input law version_info with_traceback add_note attrgetter breakpoint builtins compile "
+    "copyright credits delattr dir eval exec exit gc getattr globals hasattr help id importlib license locals "
+    "methodcaller os quit setattr type vars sys".split()
+)
+NEVER_WORDS = (
+    r"\b(type|typing|typing_extensions|enum|Enum|IntEnum|StrEnum|Flag|IntFlag|Generic|Protocol|ABC|ABCMeta|"
+    r"namedtuple|NamedTuple|TypedDict|TYPE_CHECKING|abstractmethod)\b|dataclass|overload|contextmanager"
+)
+STATEMENTS = (
+    ast.FunctionDef, ast.ClassDef, ast.Return, ast.Delete, ast.Assign, ast.AugAssign, ast.AnnAssign, ast.For,
+    ast.While, ast.If, ast.With, ast.Match, ast.Raise, ast.Try, ast.Assert, ast.ImportFrom, ast.Nonlocal,
+    ast.Expr, ast.Pass, ast.Break, ast.Continue,
+)
+FUNCTIONS = (ast.FunctionDef, ast.Lambda)
+
+
+def tree_of(path):
+    return ast.parse(path.read_text(encoding="ascii"))
+
+
+def nodes(path, kinds):
+    return [node for node in ast.walk(tree_of(path)) if isinstance(node, kinds)]
+
+
+def bound_names(path):
+    """All names that the file binds: variables, parameters, functions, classes, imports, caught errors."""
+    told = [node.id for node in nodes(path, ast.Name) if not isinstance(node.ctx, ast.Load)]
+    told += [node.arg for node in nodes(path, ast.arg)]
+    told += [node.name for node in nodes(path, (ast.FunctionDef, ast.ClassDef))]
+    told += [alias.asname or alias.name for node in nodes(path, ast.ImportFrom) for alias in node.names]
+    told += [node.name for node in nodes(path, ast.ExceptHandler) if node.name]
+    return told
+
+
+def top_names(path):
+    """The names of the file's own functions, classes and values, in their order."""
+    told = []
+    for node in tree_of(path).body:
+        if isinstance(node, (ast.FunctionDef, ast.ClassDef)):
+            told.append(node.name)
+        elif isinstance(node, ast.Assign):
+            told += [target.id for target in node.targets]
+    return told
+
+
+def own_methods():
+    return {
+        part.name
+        for path in FILES
+        for node in nodes(path, ast.ClassDef)
+        for part in node.body
+        if isinstance(part, ast.FunctionDef)
+    }
+
+
+class EachFile(unittest.TestCase):
+    def each(self, check):
+        self.assertTrue(FILES)
+        for path in FILES:
+            with self.subTest(path.name):
+                check(path)
+
+    def test_l1_l14_files(self):
+        self.assertTrue((PACKAGE / "__init__.py").is_file())
+        for path in PACKAGE.rglob("*"):
+            if "__pycache__" not in path.parts:
+                self.assertTrue(path.is_file(), path)
+                self.assertRegex(path.name, r"^(__init__|__main__|[a-z][a-z0-9_]*)\.py$")
+                self.assertNotRegex(path.stem, r"^(law_.*|tests?|testing|test_.*|site|conftest|.*customize)$")
+                self.assertNotIn(path.stem, dir(builtins))
+        self.assertLessEqual(len(FILES), 100)
+
+    def test_l10_l14_characters_and_sizes(self):
+        def check(path):
+            data = path.read_bytes()
+            self.assertTrue(all(byte == 10 or 32 <= byte <= 126 for byte in data))
+            rows = data.decode("ascii").split("\n")
+            self.assertLessEqual(len(rows), 399)
+            self.assertLessEqual(max(len(row) for row in rows), 120)
+            for node in nodes(path, ast.FunctionDef):
+                self.assertLessEqual(node.end_lineno - node.lineno + 1, 40, node.name)
+
+        self.each(check)
+
+    def test_no_line_that_python_warns_of(self):
+        def check(path):
+            with warnings.catch_warnings():
+                warnings.simplefilter("error")
+                compile(path.read_text(encoding="ascii"), path.name, "exec")
+
+        self.each(check)
+
+    def test_l2_l16_imports(self):
+        def check(path):
+            self.assertEqual(nodes(path, ast.Import), [])
+            for node in nodes(path, ast.ImportFrom):
+                self.assertEqual(node.level, 0)
+                self.assertRegex(node.module, r"^lackcry\.[a-z0-9_]+$")
+                source = PACKAGE / (node.module.partition(".")[2] + ".py")
+                for alias in node.names:
+                    self.assertIn(alias.name, top_names(source))
+            body = tree_of(path).body
+            if body and isinstance(body[0], ast.Expr):
+                body = body[1:]
+            above = [isinstance(node, ast.ImportFrom) for node in body]
+            self.assertEqual(above, sorted(above, reverse=True))
+
+        self.each(check)
+
+    def test_l16_no_ring_of_imports(self):
+        needs = {
+            path.stem: {node.module.partition(".")[2] for node in nodes(path, ast.ImportFrom)} for path in FILES
+        }
+        while needs:
+            free = [stem for stem in needs if not needs[stem] & set(needs)]
+            self.assertTrue(free, needs)
+            for stem in free:
+                del needs[stem]
+
+    def test_l3_l15_module_level(self):
+        def check(path):
+            for at, node in enumerate(tree_of(path).body):
+                if isinstance(node, ast.Expr):
+                    self.assertEqual(at, 0)
+                    self.assertIsInstance(node.value, ast.Constant)
+                elif isinstance(node, ast.Assign):
+                    self.assertEqual(len(node.targets), 1)
+                    self.assertIsInstance(node.targets[0], ast.Name)
+                else:
+                    self.assertIsInstance(node, (ast.ImportFrom, ast.FunctionDef, ast.ClassDef))
+            bound = top_names(path)
+            bound += [alias.asname or alias.name for node in nodes(path, ast.ImportFrom) for alias in node.names]
+            self.assertEqual(len(bound), len(set(bound)))
+            classes = {node.name for node in nodes(path, ast.ClassDef)}
+            self.assertEqual(classes - set(bound), set())
+
+        self.each(check)
+
+    def test_l4_l5_l6_statements(self):
+        def check(path):
+            for node in nodes(path, ast.stmt):
+                self.assertIsInstance(node, STATEMENTS, ast.dump(node)[:80])
+            for node in nodes(path, FUNCTIONS):
+                self.assertEqual(node.args.posonlyargs, [])
+            for node in nodes(path, ast.ClassDef):
+                self.assertEqual((node.decorator_list, node.keywords), ([], []))
+            for node in nodes(path, ast.Expr):
+                self.assertIsInstance(node.value, (ast.Constant, ast.Call, ast.Yield, ast.YieldFrom))
+
+        self.each(check)
+
+    def test_l7_l20_l27_expressions(self):
+        def check(path):
+            for node in nodes(path, ast.Constant):
+                self.assertIsInstance(node.value, (int, str, bytes, type(None)))
+                if isinstance(node.value, str):
+                    self.assertNotIn("%", node.value)
+            self.assertEqual(nodes(path, (ast.Div, ast.MatMult)), [])
+            for node in nodes(path, ast.BinOp):
+                if isinstance(node.op, ast.Pow):
+                    self.assertIsInstance(node.right, ast.Constant)
+            for node in nodes(path, ast.Compare):
+                for sign, right in zip(node.ops, node.comparators):
+                    if isinstance(sign, (ast.Is, ast.IsNot)):
+                        self.assertIsInstance(right, ast.Constant)
+                        self.assertIn(right.value, (None, True, False))
+
+        self.each(check)
+
+    def test_l8_l12_l15_l17_names(self):
+        python = set(dir(builtins))
+
+        def check(path):
+            for name in bound_names(path):
+                if name in DOUBLE:
+                    continue
+                self.assertRegex(name, r"^[A-Za-z][A-Za-z0-9_]*$")
+                self.assertNotIn(name, NEVER_NAMES)
+                self.assertNotIn(name, python)
+            for node in nodes(path, ast.Name):
+                if node.id in python:
+                    self.assertIn(node.id, BUILTINS)
+            local = {node.arg for node in nodes(path, ast.arg)}
+            inside = [node for node in nodes(path, ast.Name) if not isinstance(node.ctx, ast.Load)]
+            local |= {node.id for node in inside if node.col_offset}
+            taken = {node.name for node in nodes(path, ast.ClassDef)}
+            taken |= {alias.name for node in nodes(path, ast.ImportFrom) for alias in node.names}
+            self.assertEqual(local & taken, set())
+
+        self.each(check)
+
+    def test_l17_words_nowhere(self):
+        self.each(lambda path: self.assertNotRegex(path.read_text(encoding="ascii"), re.compile(NEVER_WORDS)))
+
+    def test_l25_methods(self):
+        allowed = METHODS | own_methods()
+
+        def check(path):
+            for node in nodes(path, ast.Call):
+                if isinstance(node.func, ast.Attribute):
+                    self.assertIn(node.func.attr, allowed)
+
+        self.each(check)
+
+    def test_l7_any_and_the_like_take_lists(self):
+        def check(path):
+            for node in nodes(path, ast.Call):
+                if isinstance(node.func, ast.Name) and node.func.id in ("any", "all", "min", "max", "sum", "sorted"):
+                    self.assertFalse([part for part in node.args if isinstance(part, ast.GeneratorExp)])
+
+        self.each(check)
+
+
+class Interface(unittest.TestCase):
+    def test_each_name_is_defined_in_its_file(self):
+        for stem, names in INTERFACE.items():
+            there = {
+                node.name for node in tree_of(PACKAGE / (stem + ".py")).body
+                if isinstance(node, (ast.FunctionDef, ast.ClassDef))
+            }
+            self.assertEqual(set(names) - there, set(), stem)
+
+    def test_arguments_have_the_names_told(self):
+        for stem, names in INTERFACE.items():
+            for node in nodes(PACKAGE / (stem + ".py"), ast.FunctionDef):
+                if node.name in names:
+                    self.assertEqual([arg.arg for arg in node.args.args], PARAMETERS[node.name], node.name)
+                    self.assertEqual(node.args.defaults, [])
+
+
+if __name__ == "__main__":
+    unittest.main()
