@@ -53,11 +53,20 @@ def number_of(hands, lot):
     return choose(hands, size) - 1 - behind
 
 
-def lots(hands, size):
-    """All lots of this size, rising."""
-    many = choose(hands, size)
+def refuse_too_many(many):
+    """Nothing, but where so many are more than are told at once."""
     if many > MOST_TOLD:
         raise TooMany(many)
+
+
+def lots(hands, size):
+    """All lots of this size, rising."""
+    refuse_too_many(choose(hands, size))
+    return every_lot(hands, size)
+
+
+def every_lot(hands, size):
+    """All lots of this size, rising, however many: those who go through files refuse none for its length."""
     rows = [()]
     for place in range(size):
         # A hand is left out where too few greater ones would be left, so no row is ever in vain.

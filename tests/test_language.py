@@ -18,6 +18,10 @@ INTERFACE = {
     ),
     "lots": ("choose", "is_lot", "lot_at", "number_of", "lots"),
     "signs": ("sign", "laid", "without", "with_hand"),
+    "outers": ("is_outer", "part", "plus", "times", "outer"),
+    "files": ("is_prime", "is_file", "piece", "spread"),
+    "shelves": ("shelf", "has", "lack"),
+    "wishes": ("is_wishes", "wished", "wishers", "leaders"),
 }
 PARAMETERS = {
     "choose": ["n", "k"],
@@ -29,6 +33,22 @@ PARAMETERS = {
     "laid": ["one", "other"],
     "without": ["lot", "hand"],
     "with_hand": ["lot", "hand"],
+    "is_outer": ["p", "hands", "grade", "thing"],
+    "part": ["sum_", "lot"],
+    "plus": ["p", "one", "other"],
+    "times": ["p", "sum_", "many"],
+    "outer": ["p", "one", "other"],
+    "is_prime": ["n"],
+    "is_file": ["p", "hands", "t", "thing"],
+    "piece": ["hands", "file", "lot"],
+    "spread": ["p", "hands", "t", "file"],
+    "shelf": ["hands", "t", "hand", "file"],
+    "has": ["hands", "t", "hand", "number"],
+    "lack": ["hands", "t"],
+    "is_wishes": ["hands", "files", "thing"],
+    "wished": ["wishes"],
+    "wishers": ["wishes", "number"],
+    "leaders": ["wishes"],
 }
 BUILTINS = set(
     "len range enumerate zip min max sum abs sorted reversed int str bool bytes list tuple dict set frozenset "

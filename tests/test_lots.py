@@ -4,10 +4,9 @@ import unittest
 
 from lackcry.errors import NoNumber, TooMany
 from lackcry.lots import choose, is_lot, lot_at, lots, number_of
-from tests.helpers import NO_NUMBERS, line_steps, nested, same_kind
+from tests.helpers import NO_NUMBERS, STEPS, line_steps, nested, same_kind
 
 FEW = range(1, 9)
-STEPS = 10000
 
 
 def gone_through(hands, size):

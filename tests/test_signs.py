@@ -3,9 +3,8 @@ import unittest
 
 from lackcry.lots import choose, is_lot, lot_at, lots
 from lackcry.signs import laid, sign, with_hand, without
-from tests.helpers import line_steps, same_kind
+from tests.helpers import STEPS, line_steps, parity, same_kind
 
-STEPS = 10000
 FEW = 6
 
 
@@ -22,18 +21,6 @@ def sixty_lots():
         for number in sorted({0, many // 7, many // 3, many // 2, many * 3 // 4, many - 1}):
             if number < many:
                 told.append(lot_at(60, size, number))
-    return told
-
-
-def parity(row):
-    """1 or -1, as evenly many exchanges of neighbours sort the row, by doing them."""
-    row = list(row)
-    told = 1
-    for end in range(len(row), 0, -1):
-        for at in range(end - 1):
-            if row[at] > row[at + 1]:
-                row[at], row[at + 1] = row[at + 1], row[at]
-                told = -told
     return told
 
 
