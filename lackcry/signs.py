@@ -28,3 +28,9 @@ def without(lot, hand):
 def with_hand(lot, hand):
     """The lot and a hand that it hasn't."""
     return tuple(sorted(lot + (hand,)))
+
+
+def row_sign(row):
+    """1 where evenly many pairs of a row of unlike hands have the greater one ahead, else -1."""
+    crossed = sum([len([above for above in row[:place] if above > hand]) for place, hand in enumerate(row)])
+    return sign_of_many(crossed)

@@ -22,6 +22,10 @@ INTERFACE = {
     "files": ("is_prime", "is_file", "piece", "spread"),
     "shelves": ("shelf", "has", "lack"),
     "wishes": ("is_wishes", "wished", "wishers", "leaders"),
+    "making": ("made", "is_made", "made_at", "made_number"),
+    "cries": ("terms", "cry", "cries", "all_cries", "comes_by", "freed"),
+    "leftout": ("left_many", "told_by", "all_from"),
+    "telling": ("told_file", "known"),
 }
 PARAMETERS = {
     "choose": ["n", "k"],
@@ -49,6 +53,21 @@ PARAMETERS = {
     "wished": ["wishes"],
     "wishers": ["wishes", "number"],
     "leaders": ["wishes"],
+    "made": ["t", "wishes"],
+    "is_made": ["wishes", "lot"],
+    "made_at": ["t", "wishes", "number"],
+    "made_number": ["wishes", "lot"],
+    "terms": ["wishes", "lot"],
+    "cry": ["p", "files", "wishes", "lot"],
+    "cries": ["p", "t", "files", "wishes"],
+    "all_cries": ["p", "t", "files", "wishes"],
+    "comes_by": ["wishes", "hand", "lot"],
+    "freed": ["p", "wishes", "hand", "files", "lot", "number"],
+    "left_many": ["wishes", "lot"],
+    "told_by": ["wishes", "lot"],
+    "all_from": ["p", "t", "wishes", "cries"],
+    "told_file": ["p", "t", "wishes", "hand", "files", "cries"],
+    "known": ["p", "t", "wishes", "hand", "files", "heard"],
 }
 BUILTINS = set(
     "len range enumerate zip min max sum abs sorted reversed int str bool bytes list tuple dict set frozenset "
@@ -266,6 +285,20 @@ class EachFile(unittest.TestCase):
             for node in nodes(path, ast.Call):
                 if isinstance(node.func, ast.Attribute):
                     self.assertIn(node.func.attr, allowed)
+
+        self.each(check)
+
+    def test_l23_nothing_iterated_at_once_is_stored(self):
+        def check(path):
+            for node in nodes(path, (ast.Assign, ast.Return)):
+                if isinstance(node.value, ast.Call):
+                    called = node.value.func
+                    self.assertNotIn(
+                        called.id if isinstance(called, ast.Name) else called.attr,
+                        ("zip", "enumerate", "reversed", "range", "items", "keys", "values"),
+                    )
+            for node in nodes(path, (ast.Assign, ast.Return)):
+                self.assertNotIsInstance(node.value, ast.GeneratorExp)
 
         self.each(check)
 
