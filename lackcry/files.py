@@ -1,6 +1,6 @@
 """Files, and their pieces by lots."""
 
-from lackcry.kinds import is_below
+from lackcry.kinds import are_numbers
 from lackcry.lots import choose, every_lot, number_of
 
 
@@ -20,9 +20,7 @@ def is_prime(n):
 
 def is_file(p, hands, t, thing):
     """Whether it is a file: for each lot of t hands a number of p."""
-    if not isinstance(thing, tuple) or len(thing) != choose(hands, t):
-        return False
-    return all([is_below(p, number) for number in thing])
+    return are_numbers(p, choose(hands, t), thing)
 
 
 def piece(hands, file, lot):

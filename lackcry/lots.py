@@ -1,7 +1,7 @@
 """Lots of hands, and their numbers."""
 
 from lackcry.errors import NoNumber, TooMany
-from lackcry.kinds import is_below
+from lackcry.kinds import is_below, is_tuple_of
 
 MOST_TOLD = 2000
 
@@ -19,7 +19,7 @@ def choose(n, k):
 
 def is_lot(hands, size, thing):
     """Whether it is a lot of so many of these hands."""
-    if not isinstance(thing, tuple) or len(thing) != size:
+    if not is_tuple_of(size, thing):
         return False
     least = 0
     for hand in thing:

@@ -1,6 +1,6 @@
 """Outer sums: numbers of p at lots of one size."""
 
-from lackcry.kinds import is_below
+from lackcry.kinds import is_below, is_tuple_of
 from lackcry.lots import is_lot
 from lackcry.signs import laid
 
@@ -21,7 +21,7 @@ def is_outer(p, hands, grade, thing):
 
 def is_row(p, hands, grade, thing):
     """Whether it could be one part of an outer sum."""
-    if not isinstance(thing, tuple) or len(thing) != 2:
+    if not is_tuple_of(2, thing):
         return False
     lot, number = thing
     return is_lot(hands, grade, lot) and is_below(p, number) and number > 0

@@ -1,11 +1,11 @@
 """Wishes: for each hand the number of a file, or None."""
 
-from lackcry.kinds import is_whole
+from lackcry.kinds import is_tuple_of, is_whole
 
 
 def is_wishes(hands, files, thing):
     """Whether it is wishes of so many hands for these files."""
-    if not isinstance(thing, tuple) or len(thing) != hands:
+    if not is_tuple_of(hands, thing):
         return False
     there = set(files)
     for wish in thing:

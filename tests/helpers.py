@@ -197,3 +197,85 @@ def line_steps(action):
     finally:
         sys.settrace(before)
     return many
+
+
+def spoilt(thing):
+    """The thing with something in it otherwise: each place of it, however deep, once of another kind or worth."""
+    if isinstance(thing, tuple):
+        yield list(thing)
+        yield {place: part for place, part in enumerate(thing)}
+        yield repr(thing)
+        for place, part in enumerate(thing):
+            ahead, behind = thing[:place], thing[place + 1:]
+            yield ahead + behind
+            yield ahead + (part, part) + behind
+            yield ahead + (None,) + behind
+            for other in spoilt(part):
+                yield ahead + (other,) + behind
+    elif isinstance(thing, int):
+        yield from (-1, thing - 1, thing + 1, str(thing), (thing,), [thing], bool(thing), True, False, None, 10 ** 30)
+
+
+def words_making(p, t, wishes):
+    """The making of the made cries, as points 14 and 23 say it."""
+    told = []
+    for lot in led_lots(t, wishes):
+        parts = [
+            (wishes[hand], lot[:place] + lot[place + 1:], (-1) ** place % p)
+            for place, hand in enumerate(lot) if wishes[hand] is not None
+        ]
+        told.append(tuple(sorted(parts)))
+    return tuple(told)
+
+
+def as_sum(p, numbers):
+    """The rising sum of these numbers by (file, lot), noughts left out."""
+    return tuple((*key, numbers[key] % p) for key in sorted(numbers) if numbers[key] % p)
+
+
+def mixed(source, p, making, many):
+    """So many drawn sums of the making's sums."""
+    told = []
+    for _ in range(many):
+        numbers = {}
+        for sum_ in making:
+            weight = source.randrange(p)
+            for number, lot, times in sum_:
+                numbers[number, lot] = numbers.get((number, lot), 0) + weight * times
+        told.append(as_sum(p, numbers))
+    return tuple(told)
+
+
+def any_sum(source, p, keys):
+    """A drawn sum of a few of these (file, lot)."""
+    few = source.sample(keys, source.randrange(min(len(keys), 5) + 1))
+    return as_sum(p, {key: source.randrange(p) for key in few})
+
+
+def makings(source, p, t, wishes):
+    """Makings of many kinds for these wishes, those that serve all hands and those that don't."""
+    own = words_making(p, t, wishes)
+    every = list(itertools.combinations(range(len(wishes)), t))
+    numbers = sorted({wish for wish in wishes if wish is not None})
+    keys = [(number, lot) for number in numbers for lot in every]
+    more = keys + [(number, lot) for number in (123, 999999 if 999999 not in numbers else 999998) for lot in every]
+    yield own
+    yield own[::-1]
+    yield ()
+    yield ((),)
+    yield mixed(source, p, own, len(own))
+    yield mixed(source, p, own, len(own) + 2)
+    for at in {0, len(own) // 2, len(own) - 1} if own else ():
+        yield own[:at] + own[at + 1:]
+        yield own[:at] + ((),) + own[at:]
+        yield own[:at] + (any_sum(source, p, keys),) + own[at + 1:]
+        yield own[:at] + (any_sum(source, p, more),) + own[at:]
+    yield tuple(tuple((number, lot, 1) for number, lot, _ in sum_) for sum_ in own)
+    yield tuple(((number, lot, 1),) for number, lot in keys)
+    yield tuple(((number, lot, p - 1),) for number, lot in keys[1:])
+    yield tuple(any_sum(source, p, keys) for _ in range(len(own) + 1))
+    yield tuple(any_sum(source, p, more) for _ in range(3))
+    # Pieces laid over those of a file that nobody wishes are worth nothing; but both it and they, something.
+    yield tuple(tuple(sorted(sum_ + ((123, every[0], 1),))) for sum_ in own)
+    yield own[:1] + tuple(tuple(sorted(sum_ + ((123, every[-1], 1),))) for sum_ in own)
+    yield (((123, every[-1], 1),),) + tuple(tuple(sorted(sum_ + ((123, every[-1], 1),))) for sum_ in own)

@@ -26,6 +26,10 @@ INTERFACE = {
     "cries": ("terms", "cry", "cries", "all_cries", "comes_by", "freed"),
     "leftout": ("left_many", "told_by", "all_from"),
     "telling": ("told_file", "known"),
+    "binding": ("binding", "shows_binding"),
+    "judging": ("ours", "judged"),
+    "papers": ("enough", "shows_enough", "alike", "shows_alike"),
+    "losses": ("spare", "with_spares", "restored"),
 }
 PARAMETERS = {
     "choose": ["n", "k"],
@@ -68,6 +72,17 @@ PARAMETERS = {
     "all_from": ["p", "t", "wishes", "cries"],
     "told_file": ["p", "t", "wishes", "hand", "files", "cries"],
     "known": ["p", "t", "wishes", "hand", "files", "heard"],
+    "binding": ["t", "wishes"],
+    "shows_binding": ["t", "wishes", "thing"],
+    "ours": ["p", "t", "wishes"],
+    "judged": ["p", "t", "wishes", "making"],
+    "enough": ["p", "t", "wishes", "making"],
+    "shows_enough": ["p", "t", "wishes", "making", "thing"],
+    "alike": ["p", "t", "wishes", "making"],
+    "shows_alike": ["p", "t", "wishes", "making", "thing"],
+    "spare": ["p", "cries", "j"],
+    "with_spares": ["p", "cries", "many"],
+    "restored": ["p", "m", "heard"],
 }
 BUILTINS = set(
     "len range enumerate zip min max sum abs sorted reversed int str bool bytes list tuple dict set frozenset "
@@ -307,6 +322,37 @@ class EachFile(unittest.TestCase):
             for node in nodes(path, ast.Call):
                 if isinstance(node.func, ast.Name) and node.func.id in ("any", "all", "min", "max", "sum", "sorted"):
                     self.assertFalse([part for part in node.args if isinstance(part, ast.GeneratorExp)])
+
+        self.each(check)
+
+    def test_l18_no_name_is_a_method_and_an_attribute(self):
+        stored = {
+            node.attr for path in FILES for node in nodes(path, ast.Attribute) if not isinstance(node.ctx, ast.Load)
+        }
+        self.assertEqual(stored & own_methods(), set())
+        read = {
+            node.attr for path in FILES for node in nodes(path, ast.Attribute) if isinstance(node.ctx, ast.Load)
+        }
+        self.assertEqual(read - stored - own_methods() - METHODS, set())
+
+    def test_l19_errors_are_raised_and_caught_by_name(self):
+        own = {node.name for node in nodes(PACKAGE / "errors.py", ast.ClassDef)}
+
+        def check(path):
+            for node in nodes(path, ast.Raise):
+                self.assertIsInstance(node.exc, ast.Call)
+                self.assertIn(node.exc.func.id, own)
+            for node in nodes(path, ast.ExceptHandler):
+                self.assertIn(node.type.id, own)
+
+        self.each(check)
+
+    def test_l24_sets_are_used_on_the_spot_or_stored_once(self):
+        def check(path):
+            for node in nodes(path, (ast.For, ast.comprehension)):
+                self.assertNotIsInstance(node.iter, (ast.Set, ast.SetComp))
+                if isinstance(node.iter, ast.Call) and isinstance(node.iter.func, ast.Name):
+                    self.assertNotEqual(node.iter.func.id, "set")
 
         self.each(check)
 
