@@ -40,6 +40,11 @@ def known(p, t, wishes, hand, files, heard):
         for lot, number in zip(made_lots(t, wishes), heard)
         if number is not None
     ]
+    return told_by_sums(p, files, own, sums)
+
+
+def told_by_sums(p, files, own, sums):
+    """The pieces of the file of this number, None for each that the files as they are had and the sums leave open."""
     told = settled(p, files, sums)
     return tuple(told.get((own, place)) if here is None else here for place, here in enumerate(files[own]))
 

@@ -279,3 +279,20 @@ def makings(source, p, t, wishes):
     yield tuple(tuple(sorted(sum_ + ((123, every[0], 1),))) for sum_ in own)
     yield own[:1] + tuple(tuple(sorted(sum_ + ((123, every[-1], 1),))) for sum_ in own)
     yield (((123, every[-1], 1),),) + tuple(tuple(sorted(sum_ + ((123, every[-1], 1),))) for sum_ in own)
+
+
+def by_differences(p, cries, many):
+    """The cries and so many spares: the last of the differences of differences stays as it is."""
+    if not cries:
+        return (0,) * many
+    ends = []
+    row = list(cries)
+    while row:
+        ends.append(row[-1])
+        row = [(after - ahead) % p for ahead, after in zip(row, row[1:])]
+    told = list(cries)
+    for _ in range(many):
+        for place in range(len(ends) - 2, -1, -1):
+            ends[place] = (ends[place] + ends[place + 1]) % p
+        told.append(ends[0])
+    return tuple(told)

@@ -10,7 +10,7 @@ import warnings
 PACKAGE = pathlib.Path(__file__).resolve().parent.parent / "lackcry"
 FILES = sorted(PACKAGE.rglob("*.py"))
 
-# The interface's names, by the file that must define them; later stages add theirs.
+# The interface's names, by the file that must define them.
 INTERFACE = {
     "errors": (
         "NotSo", "Gone", "TooMany", "TooFew", "NoWish", "BadHouse", "BadFile", "BadWishes", "NoSpares",
@@ -30,6 +30,10 @@ INTERFACE = {
     "judging": ("ours", "judged"),
     "papers": ("enough", "shows_enough", "alike", "shows_alike"),
     "losses": ("spare", "with_spares", "restored"),
+    "house": ("House",),
+    "showing": ("show_file", "show_wishes", "show_making", "show_house"),
+    "reading": ("read_file", "read_wishes", "read_making", "read_house"),
+    "desk": ("Desk",),
 }
 PARAMETERS = {
     "choose": ["n", "k"],
@@ -83,6 +87,24 @@ PARAMETERS = {
     "spare": ["p", "cries", "j"],
     "with_spares": ["p", "cries", "many"],
     "restored": ["p", "m", "heard"],
+    "show_file": ["file"],
+    "show_wishes": ["wishes"],
+    "show_making": ["making"],
+    "show_house": ["house"],
+    "read_file": ["text"],
+    "read_wishes": ["text"],
+    "read_making": ["text"],
+    "read_house": ["text"],
+}
+# The methods that stand in the class itself, with what they take behind self.
+CLASS_METHODS = {
+    ("house", "House"): {
+        "__init__": ["hands", "t", "p"], "bring": ["file"], "drop": ["number"], "files": [], "shelf": ["hand"],
+        "day": ["wishes", "*", "spares"], "call": [], "lose": [], "away": ["hand"], "home": ["hand"], "night": [],
+        "heard": ["hand"], "pieces": ["hand"], "knows": ["hand"], "is_day": [], "copy": [], "__eq__": ["other"],
+        "__len__": [],
+    },
+    ("desk", "Desk"): {"__init__": ["text"], "say": ["line"]},
 }
 BUILTINS = set(
     "len range enumerate zip min max sum abs sorted reversed int str bool bytes list tuple dict set frozenset "
@@ -93,7 +115,7 @@ BUILTINS = set(
 METHODS = set(
     "append clear copy count endswith extend find get index insert isalnum isalpha isdigit islower isspace isupper "
     "items join keys ljust lower lstrip partition pop remove replace reverse rfind rjust rpartition rsplit rstrip "
-    "setdefault split splitlines startswith strip update upper values zfill bit_length add discard sort".split()
+    "setdefault split splitlines startswith strip update upper values zfill bit_length add discard sort isascii".split()
 )
 DOUBLE = set(
     "__init__ __eq__ __repr__ __str__ __len__ __enter__ __exit__ __call__ __iter__".split()
@@ -372,6 +394,20 @@ class Interface(unittest.TestCase):
                 if node.name in names:
                     self.assertEqual([arg.arg for arg in node.args.args], PARAMETERS[node.name], node.name)
                     self.assertEqual(node.args.defaults, [])
+
+    def test_methods_stand_in_their_class(self):
+        for (stem, name), methods in CLASS_METHODS.items():
+            (place,) = [node for node in tree_of(PACKAGE / (stem + ".py")).body if getattr(node, "name", "") == name]
+            there = {}
+            for node in place.body:
+                if isinstance(node, ast.FunctionDef):
+                    told = [arg.arg for arg in node.args.args]
+                    if node.args.kwonlyargs:
+                        told += ["*"] + [arg.arg for arg in node.args.kwonlyargs]
+                    self.assertEqual(told[0], "self")
+                    there[node.name] = told[1:]
+            for method, names in methods.items():
+                self.assertEqual(there.get(method), names, method)
 
 
 if __name__ == "__main__":

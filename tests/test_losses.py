@@ -3,24 +3,7 @@ import unittest
 
 from lackcry.errors import TooFew
 from lackcry.losses import restored, spare, spare_weights, with_spares
-from tests.helpers import PRIMES, drawn, drawn_file, same_kind
-
-
-def by_differences(p, cries, many):
-    """The cries and so many spares: the last of the differences of differences stays as it is."""
-    if not cries:
-        return (0,) * many
-    ends = []
-    row = list(cries)
-    while row:
-        ends.append(row[-1])
-        row = [(after - ahead) % p for ahead, after in zip(row, row[1:])]
-    told = list(cries)
-    for _ in range(many):
-        for place in range(len(ends) - 2, -1, -1):
-            ends[place] = (ends[place] + ends[place + 1]) % p
-        told.append(ends[0])
-    return tuple(told)
+from tests.helpers import PRIMES, by_differences, drawn, drawn_file, same_kind
 
 
 def by_powers(p, numbers, x):
